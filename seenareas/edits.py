@@ -1,6 +1,6 @@
 """The calls that change what is in a world: things, walls, ranks, players."""
 
-from seenareas.model import FULL, KINDS, MISSING, Player, TAKEN, Thing, WRONG
+from seenareas.model import FULL, KINDS, MISSING, Player, STATE_SIZE, TAKEN, Thing, WRONG
 
 MOST_THINGS = 64
 MOST_WALLS = 32
@@ -8,7 +8,6 @@ MOST_PLAYERS = 8
 LAST_THING = 9999
 LAST_PLAYER = 99
 LAST_TEAM = 9
-STATE_SIZE = 8
 FARTHEST = 100000
 GREATEST_VALUE = 2147483647
 GREATEST_RANK = 100

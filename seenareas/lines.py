@@ -52,3 +52,28 @@ def meeting(line, wall):
     if cross(offset, along) != 0:
         return None
     return overlap(along, offset, wall_along)
+
+
+def is_less(share, other):
+    return share[0] * other[1] < other[0] * share[1]
+
+
+# The number of the wall that the line meets first, and the fraction; None if it meets none.
+# Of walls met at the same fraction the one found first stays: its number is the least.
+def first_meeting(line, walls):
+    first = None
+    for i, wall in enumerate(walls):
+        share = meeting(line, wall)
+        if share is not None and (first is None or is_less(share, first[1])):
+            first = (i, share)
+    return first
+
+
+def least_terms(share):
+    divisor = share[1]
+    rest = share[0]
+    while rest != 0:
+        smaller = divisor % rest
+        divisor = rest
+        rest = smaller
+    return [share[0] // divisor, share[1] // divisor]

@@ -5,8 +5,12 @@ WRONG = -2
 TAKEN = -3
 FULL = -4
 ENDED = -5
+UNREADABLE = -6
+OVERTAKEN = -7
+UNFITTING = -8
 
 KINDS = 8
+STATE_SIZE = 8
 
 
 # A thing is never changed: when it moves, another one is put in its place.
@@ -33,6 +37,13 @@ class Player:
         self.sent = []
 
 
+# things is a dict from a thing's number to the thing as the streams told it.
+class Mirror:
+    def __init__(self, tick, things):
+        self.tick = tick
+        self.things = things
+
+
 class World:
     def __init__(self):
         self.tick = 0
@@ -40,3 +51,4 @@ class World:
         self.walls = []
         self.ranks = [0] * KINDS
         self.players = {}
+        self.mirror = Mirror(0, {})

@@ -1,8 +1,11 @@
-"""Calls by name, their answers one by one, and a reader of streams, for the tests."""
+"""Calls by name, their answers one by one, a reader and a writer of streams, for the tests."""
 
 from seenareas.world import answers
 
 TICK = [9]
+MIRROR = [17]
+CLEAR = [18]
+STATE = [20]
 LOW = -3000000000
 HIGH = 3000000000
 
@@ -51,6 +54,34 @@ def sent(n):
     return [10, n]
 
 
+def sees(n):
+    return [11, n]
+
+
+def waits(n):
+    return [12, n]
+
+
+def told(n):
+    return [13, n]
+
+
+def around(x, y, r):
+    return [14, x, y, r]
+
+
+def line(x, y, x_other, y_other):
+    return [15, x, y, x_other, y_other]
+
+
+def feed(row):
+    return [16, len(row), *row]
+
+
+def thing(n):
+    return [19, n]
+
+
 def flat(calls):
     return [number for call in calls for number in call]
 
@@ -75,6 +106,34 @@ def run(*calls):
 
 def last(*calls):
     return run(*calls)[-1]
+
+
+def whole(number):
+    row = []
+    while number > 127:
+        row.append(number & 127 | 128)
+        number >>= 7
+    return [*row, number]
+
+
+def value(z):
+    return whole(2 * z if z >= 0 else -2 * z - 1)
+
+
+def enters(n, kind=0, values=(0,) * 8):
+    return [1, *whole(n), *whole(kind), *flat(value(z) for z in values)]
+
+
+def changes(n, changed):
+    return [2, *whole(n), sum(2 ** i for i in changed), *flat(value(changed[i]) for i in sorted(changed))]
+
+
+def leaves(n):
+    return [3, *whole(n)]
+
+
+def stream(tick, *messages):
+    return [*whole(tick), *whole(len(messages)), *flat(messages)]
 
 
 def read_whole(row, at):

@@ -137,7 +137,18 @@ class Forms(unittest.TestCase):
         for path, node in nodes(ast.arg):
             self.assertIsNone(node.annotation, path)
         for path, node in nodes(ast.ClassDef):
-            self.assertTrue(all(isinstance(part, ast.FunctionDef) for part in node.body), (path, node.name))
+            self.assertTrue(all(isinstance(part, (ast.FunctionDef, ast.Pass)) for part in node.body), (path, node.name))
+
+    def test_only_own_errors_are_raised_and_taken(self):
+        own = {node.name for path, node in nodes(ast.ClassDef) if node.bases}
+        for path, node in nodes(ast.Raise):
+            self.assertIn(node.exc.func.id, own, (path, node.lineno))
+        for path, node in nodes(ast.ExceptHandler):
+            self.assertIn(node.type.id, own, (path, node.lineno))
+        for path, node in nodes(ast.Try):
+            self.assertEqual(node.finalbody, [], (path, node.lineno))
+        for path, node in nodes(ast.ClassDef):
+            self.assertIn([base.id for base in node.bases], ([], ["Exception"]), (path, node.name))
 
 
 class Names(unittest.TestCase):

@@ -4,7 +4,8 @@ import random
 import unittest
 
 from tests.helper import (
-    TICK, drop, hear, join, make, messages_of, move, part, rank, read_stream, run, sent, set_value, unwall, wall,
+    CLEAR, MIRROR, STATE, TICK, around, drop, enters, feed, hear, join, last, line, make, messages_of, move, part, rank,
+    read_stream, run, sees, sent, set_value, stream, thing, told, unwall, waits, wall,
 )
 from tests.test_walls import slow_meeting
 
@@ -140,6 +141,7 @@ class Follower:
             player.update(alone=set(), told={}, waiting={}, most=0)
 
     def tick(self, number, world, answer, streams):
+        """Streams are the answers of sent for all players, by rising numbers."""
         for player in self.players.values():
             player["alone"] = slow_sees(world, player)
         expected = [0, number]
@@ -149,7 +151,8 @@ class Follower:
             for other in self.players.values():
                 if other["team"] == player["team"] != 0:
                     seen |= other["alone"]
-            self.stream(number, world, player, {thing: world["things"][thing] for thing in seen}, stream)
+            player["seen"] = seen
+            self.stream(number, world, player, {n: world["things"][n] for n in seen}, stream)
             expected += [n, len(stream) - 1, len(player["waiting"])]
         self.test.assertEqual(answer, expected)
 
@@ -184,15 +187,120 @@ class Follower:
             self.test.assertEqual(player["told"], seen)
 
 
+def rows_behind_ticks(drawn, ask):
+    """For each tick its answer and, for each player, the answer of ask in the place of sent."""
+    calls = [ask(call[1]) if call[0] == 10 else call for call in drawn.calls]
+    answered = run(*calls)
+    places = [i for i, call in enumerate(calls) if call == TICK]
+    return [(answered[at], answered[at + 1:at + 1 + len(drawn.players)]) for at in places]
+
+
+def shown(things):
+    """A dict of kinds and values as told and mirror answer it."""
+    row = [len(things)]
+    for n in sorted(things):
+        row += [n, things[n][0], *things[n][1]]
+    return row
+
+
 class EveryStream(unittest.TestCase):
     def test_drawn_worlds(self):
         for seed in range(60):
             drawn = Drawn(seed, 30)
-            answered = run(*drawn.calls)
+            asked = [rows_behind_ticks(drawn, ask) for ask in (sent, sees, waits, told)]
             follower = Follower(self, drawn)
-            places = [i for i, call in enumerate(drawn.calls) if call == TICK]
-            for number, (at, world) in enumerate(zip(places, drawn.states), start=1):
-                follower.tick(number, world, answered[at], answered[at + 1:at + 1 + len(drawn.players)])
+            for number, (world, *rows) in enumerate(zip(drawn.states, *asked), start=1):
+                self.assertEqual([row[0] for row in rows], [rows[0][0]] * 4)
+                follower.tick(number, world, *rows[0])
+                for i, n in enumerate(sorted(drawn.players)):
+                    self.check(drawn.players[n], *[row[1][i] for row in rows[1:]])
+
+    def check(self, player, seen, waiting, told_of):
+        alone = sorted(player["alone"])
+        everything = sorted(player["seen"])
+        self.assertEqual(seen, [0, len(alone), *alone, len(everything), *everything])
+        self.assertEqual(waiting, [0, *[number for pair in sorted(player["waiting"].items()) for number in pair]])
+        self.assertEqual(told_of, [0, *shown(player["told"])])
+
+
+class MirrorShowsWhatWasTold(unittest.TestCase):
+    """Promise 1: fed with all streams since a player joined, a mirror is what the player was told."""
+
+    def follow(self, calls, n):
+        """Feeds what is sent to a player in each tick, and compares."""
+        asking = []
+        for call in calls:
+            asking += [call, sent(n)] if call == TICK else [call]
+        streams = [feed(row[1:]) for call, row in zip(asking, run(*asking)) if call == sent(n)]
+        feeding = []
+        for call in calls:
+            feeding += [call, streams.pop(0), MIRROR, told(n)] if call == TICK else [call]
+        self.assertLessEqual(len(feeding), 300)
+        answered = run(*feeding)
+        heard = 0
+        for at, call in enumerate(feeding):
+            if call == TICK:
+                number = answered[at][1]
+                heard += answered[at + 1][1]
+                self.assertEqual(answered[at + 2], [0, number, *answered[at + 3][1:]])
+        return heard
+
+    def test_drawn_worlds(self):
+        heard = 0
+        for seed in range(40):
+            drawn = Drawn(seed, 30)
+            for n in drawn.players:
+                heard += self.follow([call for call in drawn.calls if call[0] != 10], n)
+        self.assertGreater(heard, 1000)
+
+    def test_another_kind_leavings_and_little_room(self):
+        calls = [make(n, kind=1, rest=[2147483647] * 6) for n in range(5)] + [join(0, 0, budget=64), TICK, TICK, TICK]
+        calls += [drop(1), make(1, kind=2), drop(2), TICK, drop(3), make(3, kind=5), TICK, TICK, TICK, drop(0), TICK]
+        self.assertGreater(self.follow(calls, 0), 10)
+
+    def test_a_player_that_joined_late(self):
+        calls = [make(0), make(1), join(0, 0), TICK, TICK, TICK, join(1, 0), TICK, sent(1)]
+        row = last(*calls)[1:]
+        answered = run(*calls, feed(row), MIRROR, told(1))
+        self.assertEqual(answered[-2], [0, 4, *answered[-1][1:]])
+
+    def test_a_player_that_joined_anew_begins_anew(self):
+        calls = [make(0), make(1, 5), join(0, 0), TICK, sent(0), part(0), join(0, 0), TICK, sent(0)]
+        rows = [row[1:] for call, row in zip(calls, run(*calls)) if call == sent(0)]
+        answered = run(*calls, feed(rows[0]), feed(rows[1]), CLEAR, feed(rows[1]), MIRROR, told(0))
+        self.assertEqual(answered[-6:-2], [[0, 2], [-8], [0], [0, 2]])
+        self.assertEqual(answered[-2], [0, 2, *answered[-1][1:]])
+
+
+class NothingWaits(unittest.TestCase):
+    """Promise 2: where nothing waits the player was told just what it sees, as it is."""
+
+    def test_drawn_worlds(self):
+        often = 0
+        for seed in range(60, 100):
+            drawn = Drawn(seed, 30)
+            asked = [rows_behind_ticks(drawn, ask) for ask in (sees, waits, told)]
+            for world, seen, waiting, told_of in zip(drawn.states, *asked):
+                for i in range(len(drawn.players)):
+                    if waiting[1][i] == [0]:
+                        numbers = seen[1][i][seen[1][i][1] + 3:]
+                        self.assertEqual(told_of[1][i], [0, *shown({n: world["things"][n] for n in numbers})])
+                        often += numbers != []
+        self.assertGreater(often, 100)
+
+    def test_as_soon_as_nothing_waits_and_not_before(self):
+        things = [make(n, n, 0, n, [2147483647 - n] * 6) for n in range(4)]
+        now = [thing(n) for n in range(4)]
+        steps = [TICK, waits(0), told(0), sees(0)]
+        calls = [*things, join(0, 0, budget=64), *steps * 3, drop(3), *steps, *now[:3]]
+        answered = run(*calls)
+        self.assertEqual([row for call, row in zip(calls, answered) if call == waits(0)][2:], [[0, 3, 1], [0]])
+        told_of = [row for call, row in zip(calls, answered) if call == told(0)]
+        seen = [row for call, row in zip(calls, answered) if call == sees(0)]
+        self.assertEqual([row[1] for row in told_of], [1, 2, 3, 3])
+        self.assertEqual(seen[2:], [[0, 4, 0, 1, 2, 3, 4, 0, 1, 2, 3], [0, 3, 0, 1, 2, 3, 0, 1, 2]])
+        as_is = [number for n, row in enumerate(answered[-3:]) for number in (n, *row[1:])]
+        self.assertEqual(told_of[3], [0, 3, *as_is])
 
 
 class NothingStarves(unittest.TestCase):
@@ -232,6 +340,13 @@ class OnlyWhatIsSeen(unittest.TestCase):
     def streams(self, calls):
         return [answer for call, answer in zip(calls, run(*calls)) if call == sent(0)]
 
+    def shown(self, calls):
+        """The same calls, and with each stream what the player saw, was told, and what waits."""
+        asking = []
+        for call in calls:
+            asking += [call, sees(0), waits(0), told(0)] if call == sent(0) else [call]
+        return [answer for call, answer in zip(asking, run(*asking)) if call[0] in (10, 11, 12, 13) and call[1] == 0]
+
     def story(self, aside):
         """A player's ticks in which things come and go; aside(i) are calls that must not matter to it."""
         calls = [wall(-5, -9, -5, 9), rank(1, 30), make(0), make(1, 5, kind=1), make(2, 12), make(3, 200), *aside(0)]
@@ -244,6 +359,7 @@ class OnlyWhatIsSeen(unittest.TestCase):
     def assert_same(self, aside):
         plain = self.streams(self.story(lambda i: []))
         self.assertEqual(self.streams(self.story(aside)), plain)
+        self.assertEqual(self.shown(self.story(aside)), self.shown(self.story(lambda i: [])))
         self.assertGreater(sum(len(messages_of(answer)) for answer in plain), 10)
 
     def test_things_beyond_the_outer_circles(self):
@@ -259,6 +375,11 @@ class OnlyWhatIsSeen(unittest.TestCase):
         joined = [join(9, 1, team=4, inner=10000, outer=10000), join(10, 2, budget=64), join(11, 0, team=0)]
         self.assert_same(lambda i: [[*joined], [], [part(9)], [join(9, 3, team=1)], [part(10), part(11)], []][i])
 
+    def test_questions_and_the_mirror(self):
+        asked = [sees(1), waits(1), told(1), around(0, 0, 9), line(0, 0, 9, 9), MIRROR, STATE, thing(0), thing(77)]
+        heard = [CLEAR, feed(stream(9, enters(0, 5), enters(4, 1))), feed([9, 0])]
+        self.assert_same(lambda i: asked + heard)
+
     def test_other_budgets_in_the_team(self):
         self.assert_same(lambda i: [join(7, 0, team=3, inner=10, outer=20, budget=64)] if i == 1 else [])
 
@@ -267,7 +388,8 @@ class OnlyWhatIsSeen(unittest.TestCase):
 
     def test_calls_that_are_refused(self):
         refused = [make(0, kind=1), drop(77), move(1, 0, 200000), set_value(0, 1, 1), wall(0, 0, 0, 100001), unwall(-1)]
-        refused += [rank(1, 101), join(0, 1, budget=63), join(100, 0), part(77)]
+        refused += [rank(1, 101), join(0, 1, budget=63), join(100, 0), part(77), sees(77), waits(77), told(77)]
+        refused += [around(0, 0, -1), line(0, 0, 0, 100001), feed([]), feed([256]), feed([0, 0]), feed([1, 1, 3, 0])]
         self.assert_same(lambda i: refused)
 
 
